@@ -1,0 +1,1 @@
+"""The fund that covers whoever defaults."""
