@@ -1,7 +1,6 @@
-"""The object that calls are made on, and what each call does to it and answers."""
+"""The object that calls are made on, and the calls that change it."""
 
 from defaultfund.legs import MOST_PRICE, opposite
-from defaultfund.losses import need_in_all
 from defaultfund.texts import WrongText, read_book
 
 MOST_MEMBERS = 8
@@ -21,6 +20,16 @@ class House:
         self.boxes = {}
 
 
+def copy_of(house):
+    """Another house that holds the same; books and boxes are only ever replaced, so both may hold the same ones."""
+    other = House()
+    other.prices_now = house.prices_now
+    other.margins = dict(house.margins)
+    other.books = dict(house.books)
+    other.boxes = dict(house.boxes)
+    return other
+
+
 def are_prices(row, how_many):
     """Whether the row is so many prices."""
     return len(row) == how_many and all([0 <= price <= MOST_PRICE for price in row])
@@ -34,16 +43,6 @@ def is_box(row):
 def is_margin(number):
     """Whether a member may have this margin."""
     return 0 <= number <= MOST_MARGIN
-
-
-def are_rising_members(house, numbers):
-    """Whether these are members by rising numbers."""
-    before = 0
-    for who in numbers:
-        if who <= before or who not in house.books:
-            return False
-        before = who
-    return True
 
 
 def set_now(house, prices):
@@ -124,10 +123,3 @@ def drop_box(house, key):
         return [-1]
     house.boxes.pop(key)
     return [len(house.boxes)]
-
-
-def tell_uncovered(house, numbers):
-    """The call uncovered."""
-    if not are_rising_members(house, numbers):
-        return [-1]
-    return need_in_all(house, numbers)

@@ -1,4 +1,4 @@
-"""Reads the texts of books, and tells where a text goes wrong."""
+"""Reads the texts of books, tells where a text goes wrong, and writes them."""
 
 from defaultfund.legs import CALL, CASH, FORWARD, MOST_PRICE, PUT, Leg
 
@@ -124,3 +124,31 @@ def read_book(text):
         sign = reader.take_joint()
         legs.append(reader.take_leg(sign))
     return legs
+
+
+def digits_of(number):
+    """The bytes of a number from 0 on."""
+    return [ord(digit) for digit in str(number)]
+
+
+def write_leg(leg):
+    """The bytes of a leg without its sign."""
+    amount = digits_of(abs(leg.quantity))
+    if leg.kind == CASH:
+        return amount
+    return amount + [BLANK, leg.kind, ZERO + leg.underlying, AT] + digits_of(leg.strike)
+
+
+def write_book(book):
+    """The bytes of a book's text."""
+    if book == []:
+        return [ZERO]
+    text = []
+    for leg in book:
+        sign = MINUS if leg.quantity < 0 else PLUS
+        if text != []:
+            text.extend([BLANK, sign, BLANK])
+        elif sign == MINUS:
+            text.append(MINUS)
+        text.extend(write_leg(leg))
+    return text

@@ -9,7 +9,9 @@ PRICE_BOUND = 10 ** 6
 KEY_BOUND = 10 ** 9
 FAR = 10 ** 18
 
+# What uncovered answers where nothing is needed, and what fund answers there.
 NO_NEED = [0, 0, 0, 0, 0, 0]
+NO_FUND = [0, 0, 0, 0, 0, 0, 0]
 
 
 def bytes_of(text):
@@ -52,6 +54,38 @@ def uncovered(*members):
     return [7] + with_count(members)
 
 
+def fund(k):
+    return [8, k]
+
+
+def without(k, who):
+    return [9, k, who]
+
+
+def iftrade(k, a, b, text):
+    return [10, k, a, b] + with_count(bytes_of(text))
+
+
+def enough(k, f):
+    return [11, k, f]
+
+
+def loss(members, prices):
+    return [12] + with_count(members) + with_count(prices)
+
+
+def apart(k):
+    return [13, k]
+
+
+def members():
+    return [14]
+
+
+def text(who):
+    return [15, who]
+
+
 def point(k, *prices):
     """A box of one and the same least and greatest prices."""
     return box(k, *[price for price in prices for end in range(2)])
@@ -85,9 +119,12 @@ def ask(*calls):
 
 
 def probes(keys):
-    """Calls that show what an object holds: the needs of all sets, then margins, members, boxes."""
+    """Calls that show what an object holds: needs of all sets, members, texts, losses, then margins and boxes."""
     calls = []
     calls += [uncovered(*[who for who in range(1, 9) if chosen >> who & 1]) for chosen in range(0, 512, 2)]
+    calls += [members(), apart(3), fund(3)]
+    calls += [text(who) for who in range(1, 9)]
+    calls += [loss([who], [0, 0, 0, 0]) for who in range(1, 9)]
     calls += [margin(who, 0) for who in range(1, 9)]
     calls += [uncovered(who) for who in range(1, 9)]
     calls += [leave(who) for who in range(1, 9)]
@@ -96,17 +133,18 @@ def probes(keys):
 
 
 class Case(unittest.TestCase):
-    """A test that can look at refusals."""
+    """A test that can look at refusals, and at calls that leave the object as it is."""
 
-    def check_refused(self, before, call, refusal, keys=(1, 2, 3, 4, 5, 6, 7)):
-        """The call behind those before it is refused by that number alone and changes nothing."""
+    def check_changes_nothing(self, before, call, answer, keys=(1, 2, 3, 4, 5, 6, 7)):
+        """The call behind those before it answers that, and the object is then as it was."""
         ends = probes(keys)
-        refused = []
-        plain = []
         # A list has at most 400 calls, so the probes are asked in parts.
         for at in range(0, len(ends), 128):
             part = ends[at:at + 128]
-            refused += ask(*before, call, *part)[len(before):]
-            plain += ask(*before, *part)[len(before):]
-            self.assertEqual(refused.pop(-len(part) - 1), [refusal])
-        self.assertEqual(refused, plain)
+            told = ask(*before, call, *part)[len(before):]
+            self.assertEqual(told[0], answer)
+            self.assertEqual(told[1:], ask(*before, *part)[len(before):])
+
+    def check_refused(self, before, call, refusal, keys=(1, 2, 3, 4, 5, 6, 7)):
+        """The call behind those before it is refused by that number alone and changes nothing."""
+        self.check_changes_nothing(before, call, [refusal], keys)
